@@ -5,6 +5,7 @@ import (
 	"iter"
 
 	"amanuensis/api"
+	"amanuensis/node"
 )
 
 // Size is how many nodes a term has, Depth how deep it is.
@@ -105,13 +106,9 @@ func visit(n api.Term, at place, yield func(place, api.Term) bool) bool {
 // below is the place of an Arg of a node.
 func below(n api.Term, at place, arg int) place {
 	at.depth++
-	if binds(n) && arg == len(n.Args)-1 {
-		at.binders++
-	}
+	at.binders += node.Binds(n, arg)
 	return at
 }
-
-func binds(n api.Term) bool { return n.Kind == api.Pi || n.Kind == api.Lam }
 
 // shaped tells whether a node has a kind, and the head and the number of Args that go with it.
 func shaped(n api.Term) bool {
