@@ -190,6 +190,7 @@ func (d *dice) anyFams(n, many int) []api.Term {
 }
 
 func TestManyAgainstThePlainWords(t *testing.T) {
+	t.Parallel()
 	d := dice(16)
 	told := seen{}
 	for n := range 60000 {
@@ -353,6 +354,7 @@ func TestAFewMostGeneralTerms(t *testing.T) {
 
 // All terms of a type, up to so many nodes: those that check takes.
 func TestAllSmallTermsOfAType(t *testing.T) {
+	t.Parallel()
 	wanted := []struct {
 		over
 		a           api.Term
@@ -541,6 +543,7 @@ func (d *dice) sum(o over, a api.Term, deep int) (api.Term, bool) {
 }
 
 func TestManyMostGeneralTerms(t *testing.T) {
+	t.Parallel()
 	d := dice(162)
 	heads := map[int]int{}
 	for n := range 2400 {
